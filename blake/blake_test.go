@@ -266,7 +266,7 @@ func TestClone(t *testing.T) {
 	}
 }
 
-// TestTheHighWordOfTheCount goes on from the state of 2^32 zero bytes; another implementation has hashed all of them.
+// TestTheHighWordOfTheCount goes on from the state of 2^32 zero bytes, whose words this package has computed once; the digest is from another implementation, which has hashed all of the bytes.
 func TestTheHighWordOfTheCount(t *testing.T) {
 	s := &State{
 		words:  [8]uint32{0x89454a0e, 0x28664702, 0x4a931f51, 0xec24d075, 0xef8d4275, 0xde6b8a90, 0x3fbf9d41, 0xc52eb65d},
